@@ -75,7 +75,7 @@ def dull_words(rule, letters):
         for ending, put, _ in (("", "", 0), *rule.endings):
             if term.endswith(put):
                 words.append(term[:len(term) - len(put)] + ending)
-    return [word for word in words if word and is_of(word, letters)]
+    return [word for word in words if is_of(word, letters)]
 
 
 def is_of(word, letters):

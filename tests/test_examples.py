@@ -28,7 +28,53 @@ RIGHTS = r'''
 >>> [shows_no_more(closed, open_house), parting_view(closed, open_house), parting_view(open_house, closed), shows_no_more(Policy(()), closed)]
 [False, (('pay',), 'a'), (('pay',), 'ab'), True]
 '''
-BLOCKS = (WORDS, WORDLIKES, RIGHTS)
+DOCUMENTS = r'''
+>>> from plainscan.documents import Log, is_document
+>>> doc = (4, 20, (), "Dogs", "A dog and a cat")
+>>> secret = (7, 21, ("pay",), "Pay", "The cat's pay")
+>>> log = Log((("put", doc), ("put", secret), ("policy", (("pay", a),)), ("label", 4, ("pay",)), ("gone", 7)))
+>>> [len(log), log.seen(2, ""), log.seen(3, "a"), log.count(5, ""), log.count(5, "a"), log.versions(1, ""), log.versions(2, "a"), log.fence(""), log.fence("a")]
+[5, ((4, 20, 'Dogs', 'A dog and a cat'),), ((4, 20, 'Dogs', 'A dog and a cat'), (7, 21, 'Pay', "The cat's pay")), 2, 3, (1, 3), (3, 4), 2, 3]
+>>> [log.documents(4)[0][2], log.policy(2).rights, is_document((0, 20, (), "", ""))]
+[('pay',), (), False]
+>>> log.then(("label", 7, ()))
+raises UnknownKey(given=7)
+'''
+QUESTIONS = r'''
+>>> from plainscan.questions import atoms, holds, open_atoms, question_text, read_question, scored_terms
+>>> cat, row, near = ("word", "any", "cat"), ("row", "body", ("red", "cat")), ("near", "any", "cat", "cat", 2)
+>>> wish = ("all", (cat, ("not", row), ("any", (near, cat))))
+>>> [question_text(wish), read_question(question_text(wish)) == wish, atoms(wish) == (cat, row, near), open_atoms(wish) == (cat, near), scored_terms(wish)]
+['all(word(any, cat), not(row(body, red cat)), any(near(any, cat, cat, 2), word(any, cat)))', True, True, True, ('cat',)]
+>>> body = ("red", None, "cat", "cat")
+>>> [holds(cat, (), body), holds(row, (), body), holds(near, (), body), holds(near, ("cat",), ("cat",)), holds(("starts", "head", "ca"), ("scatter",), ("cat",)), holds(("any", ()), (), ()), holds(("not", cat), (), ())]
+raises InvalidQuestion(given=('any', ()))
+>>> [holds(cat, (), body), holds(row, (), body), holds(near, (), body), holds(near, ("cat",), ("cat",)), holds(("starts", "head", "ca"), ("scatter",), ("cat",)), holds(("not", cat), (), ())]
+[True, False, True, False, False, True]
+'''
+QUESTIONLIKES = r'''
+>>> from plainscan.questionlikes import finds_no_more, finds_same, looks_of, parting_rows, row_states, state_of
+>>> both = ("all", (("word", "body", "red"), ("word", "body", "cat")))
+>>> close = ("near", "body", "red", "cat", 1)
+>>> [looks_of(row, close), state_of(row, close, ("cat", "red")), len(row_states(cat, ("starts", "any", "ca")))]
+[(('row', ('red', 'cat')), ('near', 'red', 'cat', 1)), (1, (9, 9)), 3]
+>>> [finds_no_more(row, close), finds_no_more(close, row), parting_rows(close, row), finds_no_more(close, both), finds_same(("not", ("not", cat)), cat), finds_same(("word", "any", "cat"), ("any", (("word", "head", "cat"), ("word", "body", "cat"))))]
+[True, False, ((), ('cat', 'red')), True, True, True]
+>>> finds_no_more(("starts", "any", "cat"), ("any", (cat, ("starts", "any", "cat"))))
+True
+'''
+RANKING = r'''
+>>> from plainscan.ranking import Rank, ranked, score
+>>> rank = Rank((0, 5, 7), (0, 1, 2, 3), (3, 2, 1), 4, "young")
+>>> [rank.points(3, 0), rank.points(1, 2), rank.factor(0), rank.factor(1), rank.factor(3), rank.factor(4), rank.factor(1000), rank.value(9, 1, 0), rank.is_blind()]
+[7, 7, 0, 3, 2, 1, 1, 5, False]
+>>> [score(wish, rank, ("cat",), body, (("cat", 2),)), score(wish, rank, (), ("cat",), ()), score(("all", (cat, ("word", "head", "dog"))), rank, ("dog",), ("cat", "dog"), (("cat", 1), ("dog", 4)))]
+[18, 0, 9]
+>>> rows = ((1, 5, (), ("cat",)), (2, 9, ("cat",), ()), (3, 9, (), ("cat", "cat")), (4, 9, (), ("dog",)))
+>>> [ranked(rows, (), cat, rank, 40), ranked(rows, ((8, 0, ("cat",), ()),), cat, Rank((0, 1), (0, 1), (3, 2, 1), 0, "old", "all"), 2), ranked((), rows, cat, rank, 1)]
+[((2, 10), (3, 4), (1, 2)), ((1, 1), (2, 1)), ()]
+'''
+BLOCKS = (WORDS, WORDLIKES, RIGHTS, DOCUMENTS, QUESTIONS, QUESTIONLIKES, RANKING)
 
 
 class ExamplesTest(unittest.TestCase):

@@ -15,6 +15,13 @@ INTERFACE = {
     "wordlikes": {"read_alike": None, "parting_text": None},
     "rights": {"is_guard": None, "is_asker": None, "is_labels": None, "is_open": None,
                "Policy": ("sees", "askers"), "shows_no_more": None, "parting_view": None},
+    "documents": {"is_document": None, "is_change": None,
+                  "Log": ("then", "documents", "policy", "seen", "count", "versions", "fence", "__len__")},
+    "questions": {"is_question": None, "is_row": None, "question_text": None, "read_question": None, "atoms": None,
+                  "open_atoms": None, "scored_terms": None, "holds": None},
+    "questionlikes": {"looks_of": None, "state_of": None, "row_states": None, "finds_no_more": None, "finds_same": None,
+                      "parting_rows": None},
+    "ranking": {"Rank": ("points", "factor", "value", "is_blind"), "score": None, "ranked": None},
 }
 
 

@@ -16,9 +16,9 @@ NO_GUARDS = (*NO_OBJECTS, ["badge", "a"], ("badge",), ("badge", "a", "b"), ("bad
              ("not", ()), ("not", (A,)), ("not", A, A), ("not",), ("all", A), ("all", [A]), ("any", (A, None)), ("all",),
              ("all", (A, ["badge", "a"])), ("any", (A,) * 7), ("not", ("not", ("not", ("not", A)))), ((), A), (["not"], A),
              ("any", (("not", ("all", (("any", (A,)),))),)), ("all", (("any", (A,) * 5), ("all", (A,) * 5), )),
-             (1, A), (("badge", "a"), "a"), ("badge", True))
+             (1, A), ("none", (A,)), ("none", ()), ("", ()), (None, (A,)), (("badge", "a"), "a"), ("badge", True))
 NO_ASKERS = (*NO_STRINGS, "ba", "aa", "g", "A", "abcdefg", "a ", ",", "fa", "%")
-NO_LABELS = (*(value for value in NO_TUPLES), ("a", "b", "c", "d", "e"), ("b", "a"), ("a", "a"), ("",), ("A",), ("a1",),
+NO_LABELS = (*NO_TUPLES, ("a", "b", "c", "d", "e"), ("b", "a"), ("a", "a"), ("",), ("A",), ("a1",),
              ("abcdefghi",), ("a b",), (b"a",), (1,), (("a",),), ("a", None), ["a"], ("a", True))
 
 
@@ -91,8 +91,7 @@ class KindsTest(unittest.TestCase):
         for labels in ((), ("a",), ("abcdefgh",), ("a", "aa", "ab", "b"), ("pay", "plan")):
             self.assertIs(is_labels(labels), True)
         for value in NO_LABELS:
-            if value != ():
-                self.assertIs(is_labels(value), False, value)
+            self.assertIs(is_labels(value), False, value)
 
     def test_by_name(self):
         self.assertEqual((is_guard(value=A), is_asker(value="ab"), is_labels(value=("a",))), (True, True, True))
@@ -180,7 +179,7 @@ class PolicyTest(unittest.TestCase):
         Policy((("abcdefgh", A),))
 
     def test_wrong_labels_and_askers(self):
-        no_labels = given(errors.InvalidLabels, *(value for value in NO_LABELS if value != ()))
+        no_labels = given(errors.InvalidLabels, *NO_LABELS)
         check_calls(self, self.policy.sees, ("labels", ("a", "b", "c", "d"), no_labels),
                     ("asker", "abcdef", given(errors.InvalidAsker, *NO_ASKERS)))
         check_calls(self, self.policy.askers, ("labels", ("abcdefgh",), no_labels))

@@ -213,11 +213,27 @@ class EdgesTest(unittest.TestCase):
         self.assertGreater(len(rows[0][0]), 2)
 
     def test_thirteen_words_are_needed(self):
-        ends = [first + second for first in "abcd" for second in "abc"]
+        # The ending d alone is replaced in the words of three letters only, and twelve of these sixteen are dull.
         folds = (("x", "-"), ("y", "-"))
-        one = WordRule("abcdxy", folds, "", (("d", "x", 1),), tuple(sorted(end + "x" for end in ends)))
-        two = WordRule("abcdxy", folds, "", (("d", "y", 1),), tuple(sorted(end + "y" for end in ends)))
-        self.assertIsNotNone(self.parted(one, two))
+        covered = tuple((letter + "d", "", 2) for letter in "abcd")
+        for first, second in (("abcd", "abc"), ("abc", "abcd"), ("abcd", "bcd"), ("bcd", "abcd")):
+            begins = sorted(one + two for one in first for two in second)
+            one = WordRule("abcdxy", folds, "", (("d", "x", 2), *covered), tuple(begin + "x" for begin in begins))
+            two = WordRule("abcdxy", folds, "", (("d", "y", 2), *covered), tuple(begin + "y" for begin in begins))
+            self.assertIsNotNone(self.parted(one, two))
+            self.assertIsNotNone(self.parted(two, one))
+
+    def test_few_of_many_words_part(self):
+        # Of the words that end with e only those that end with ee have unlike terms.
+        folds = (("x", "-"), ("y", "-"))
+        for letters in ("abcde", "vwzfe"):
+            alike = tuple((letter + "e", letter + "x", 1) for letter in letters[:4])
+            one = WordRule(letters + "xy", folds, "", (("e", "x", 2),))
+            two = WordRule(letters + "xy", folds, "", (("e", "y", 2), *alike))
+            self.assertIsNotNone(self.parted(one, two))
+            self.assertIsNotNone(self.parted(two, one))
+            last = (letters[4] + "e", letters[4] + "x", 1)
+            self.assertTrue(read_alike(one, WordRule(letters + "xy", folds, "", (("e", "y", 2), *alike, last))))
 
     def test_large_rules(self):
         letters = ALL_SIGNS[1:41]

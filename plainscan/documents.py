@@ -1,6 +1,6 @@
 """Documents, changes, and logs of changes with what each asker sees at each version."""
 
-from plainscan.errors import InvalidChange, InvalidChanges, InvalidNumber, TooMany, UnknownKey
+from plainscan.errors import InvalidChange, InvalidChanges, InvalidNumber, NotALog, TooMany, UnknownKey
 from plainscan.rights import Policy, is_labels, is_rights, need_asker
 from plainscan.values import is_number, is_one_of, is_text, is_tuple_of, need_count, need_number
 
@@ -105,6 +105,12 @@ def sight_behind(sight, seen):
     if all([document[0] in kept for document in before]):
         return (seen, count + 1, fence)
     return (seen, count + 1, count + 1)
+
+
+def need_log(log):
+    """An error for what is no log."""
+    if not isinstance(log, Log):
+        raise NotALog(log)
 
 
 class Log:

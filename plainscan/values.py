@@ -26,7 +26,8 @@ def is_one_of(value, words):
 
 def is_made_of(value, letters, least, most):
     """Whether a value is a string of so many of the letters."""
-    return type(value) is str and least <= len(value) <= most and all([letter in letters for letter in value])
+    # Nothing is left of a string of these letters alone when they are stripped from both ends.
+    return type(value) is str and least <= len(value) <= most and value.strip(letters) == ""
 
 
 def is_sign(value):

@@ -84,13 +84,14 @@ def need_rule(rule):
 
 
 def outcome(sign, letters, folds, drops):
-    """The letter that comes of a sign, the empty string if it is left out, None if it parts words."""
+    """The letter that comes of a sign, the empty string if it is left out, a space if it parts words."""
     became = folds.get(sign, sign)
     if became in drops:
         return ""
     if became in letters:
         return became
-    return None
+    # The space is none of the letters, so it cannot be taken for one.
+    return " "
 
 
 class WordRule:
@@ -119,6 +120,8 @@ class WordRule:
         """The letter that comes of a sign, the empty string if it is left out, None if it parts words."""
         if not is_sign(sign):
             raise InvalidText(sign)
+        if self._outcomes[sign] == " ":
+            return None
         return self._outcomes[sign]
 
     def term(self, word):
@@ -130,21 +133,8 @@ class WordRule:
     def row(self, text):
         """The terms of the words of a text, None in the place of each dull one."""
         need_text(text)
-        return tuple([self._term_of(word) for word in self._words(text)])
-
-    def _words(self, text):
-        words = []
-        word = ""
-        for sign in text:
-            letter = self._outcomes[sign]
-            if letter is not None:
-                word = word + letter
-            elif word:
-                words.append(word)
-                word = ""
-        if word:
-            words.append(word)
-        return words
+        words = "".join([self._outcomes[sign] for sign in text]).split(" ")
+        return tuple([self._term_of(word) for word in words if word])
 
     def _term_of(self, word):
         term = word

@@ -48,15 +48,15 @@ def drawn_labels(draw):
     return tuple(label for label in ("other", "pay", "plan") if draw.random() < 0.25)
 
 
-def drawn_changes(draw, many, keys=6):
-    """A drawn row of changes of all four kinds, each of which fits."""
+def drawn_changes(draw, many, keys=6, texts=lambda draw: (draw.choice("xy"), draw.choice("xyz"))):
+    """A drawn row of changes of all four kinds, each of which fits; the texts of a head and a body are drawn, too."""
     changes, there = [], set()
     while len(changes) < many:
         kind = draw.choice(("put", "put", "gone", "label", "policy"))
         key = draw.randint(1, keys)
         if kind == "put":
             there.add(key)
-            changes.append((kind, (key, draw.randint(0, 2), drawn_labels(draw), draw.choice("xy"), draw.choice("xyz"))))
+            changes.append((kind, (key, draw.randint(0, 2), drawn_labels(draw), *texts(draw))))
         elif kind == "policy":
             changes.append((kind, drawn_rights(draw)))
         elif key in there and kind == "gone":
@@ -83,6 +83,16 @@ def replayed(changes):
                 rights = told
         versions.append((tuple(documents[key] for key in sorted(documents)), rights))
     return versions
+
+
+def plain_counts(versions, asker):
+    """The pair of the seen set at each version, and of the own count at each, by pairs of documents and rights."""
+    seen = [tuple((key, day, head, body) for key, day, labels, head, body in documents
+                  if plain_sees(rights, labels, asker)) for documents, rights in versions]
+    counts = [0]
+    for version in range(1, len(seen)):
+        counts.append(counts[-1] + (seen[version] != seen[version - 1]))
+    return seen, counts
 
 
 class KindsTest(unittest.TestCase):
@@ -222,13 +232,11 @@ class ReplayTest(unittest.TestCase):
             self.compare_counts(log, versions, asker)
 
     def compare_counts(self, log, versions, asker):
-        seen = [tuple((key, day, head, body) for key, day, labels, head, body in documents
-                      if plain_sees(rights, labels, asker)) for documents, rights in versions]
-        counts, fence = [0], 0
+        seen, counts = plain_counts(versions, asker)
+        fence = 0
         for version in range(1, len(seen)):
-            counts.append(counts[-1] + (seen[version] != seen[version - 1]))
             if {one[0] for one in seen[version - 1]} - {one[0] for one in seen[version]}:
-                fence = counts[-1]
+                fence = counts[version]
         self.assertEqual([log.seen(version, asker) for version in range(len(seen))], seen)
         self.assertEqual([log.count(version, asker) for version in range(len(seen))], counts)
         for count in range(counts[-1] + 1):

@@ -74,7 +74,35 @@ RANKING = r'''
 >>> [ranked(rows, (), cat, rank, 40), ranked(rows, ((8, 0, ("cat",), ()),), cat, Rank((0, 1), (0, 1), (3, 2, 1), 0, "old", "all"), 2), ranked((), rows, cat, rank, 1)]
 [((2, 10), (3, 4), (1, 2)), ((1, 1), (2, 1)), ()]
 '''
-BLOCKS = (WORDS, WORDLIKES, RIGHTS, DOCUMENTS, QUESTIONS, QUESTIONLIKES, RANKING)
+RANKINGLIKES = r'''
+>>> from plainscan.rankinglikes import is_parting, multipliers, parting, parting_number, ranked_alike, shows_trace, step_value, trace
+>>> one, two, three = Rank((0, 1), (0, 2), (3, 1), 1, "key"), Rank((0, 2, 2), (0, 4), (3, 1, 1), 2, "key"), Rank((0, 1), (0, 3), (3, 1), 1, "key")
+>>> [ranked_alike(one, two), multipliers(one, two), ranked_alike(one, three), multipliers(one, three), step_value(three, ("word", 1, (0, 1), (0, 0)))]
+[True, (2, 1), False, None, 9]
+>>> first, second = ("word", 2, (0, 1), (1, 0)), ("bonus",)
+>>> [is_parting(one, three, ((first, 1), (second, -1))), is_parting(one, two, ((first, 1), (second, -1))), is_parting(one, three, ()), parting_number(one, three, 6), is_parting(one, three, parting(one, three)), parting_number(one, two, 6)]
+[True, False, False, 2, True, None]
+>>> [shows_trace(one), shows_trace(Rank((0, 1), (0,), (3, 1), 1, "key", "all")), shows_trace(Rank((0, 1), (0,), (2, 2), 1, "key", "all")), trace(one)]
+[False, True, False, None]
+'''
+SCANS = r'''
+>>> from plainscan.scans import row_documents, scan, scan_count
+>>> [row_documents(log, plain, 3, "a")[0][1], row_documents(log, plain, 3, "")[1] == row_documents(log, plain, 3, "a")[0][1:]]
+[(7, 21, ('pay',), (None, 'cat', 'pay')), True]
+>>> [scan(log, plain, 3, "a", cat, rank, 5), scan(log, plain, 3, "", cat, rank, 5), scan_count(log, plain, 2, "a", cat, rank, 1)]
+[((7, 2), (4, 2)), ((4, 3),), ((7, 2),)]
+'''
+HINTS = r'''
+>>> from plainscan.hints import begun, neighbours
+>>> [begun(rows, "", 40), begun(rows, "c", 1), begun(rows, "cats", 5), neighbours(rows, "cta", 5), neighbours(rows, "dogs", 5), neighbours(rows, "cat", 5)]
+[(('cat', 3), ('dog', 1)), (('cat', 3),), (), (('cat', 3),), (('dog', 1),), ()]
+'''
+PAGES = r'''
+>>> from plainscan.pages import page_of
+>>> [page_of(log, plain, (2, 0), "a", cat, rank, 1), page_of(log, plain, (2, 1), "a", cat, rank, 1), page_of(log, plain, (2, 5), "a", cat, rank, 1)]
+[((2, 1), ((7, 2),), True), ((2, 2), ((4, 2),), False), ((2, 5), (), False)]
+'''
+BLOCKS = (WORDS, WORDLIKES, RIGHTS, DOCUMENTS, QUESTIONS, QUESTIONLIKES, RANKING, RANKINGLIKES, SCANS, HINTS, PAGES)
 
 
 class ExamplesTest(unittest.TestCase):

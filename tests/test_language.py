@@ -22,6 +22,11 @@ INTERFACE = {
     "questionlikes": {"looks_of": None, "state_of": None, "row_states": None, "finds_no_more": None, "finds_same": None,
                       "parting_rows": None},
     "ranking": {"Rank": ("points", "factor", "value", "is_blind"), "score": None, "ranked": None},
+    "rankinglikes": {"ranked_alike": None, "multipliers": None, "step_value": None, "is_parting": None, "parting": None,
+                     "parting_number": None, "shows_trace": None, "trace": None},
+    "scans": {"row_documents": None, "scan": None, "scan_count": None},
+    "hints": {"begun": None, "neighbours": None},
+    "pages": {"is_place": None, "page_of": None},
 }
 
 

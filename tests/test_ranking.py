@@ -83,6 +83,21 @@ def drawn_documents(draw, many, keys=range(1, 1000), longest=8):
                  for key in sorted(draw.sample(list(keys), many)))
 
 
+def wrong_documents():
+    """Wrong values for an argument that wants row documents, each with the index that is told."""
+    kind = errors.InvalidDocuments
+    first, second = (3, 0, (), ()), (5, 0, (), ())
+    full = tuple((key, 0, (), ()) for key in range(1, 202))
+    return [
+        *indexed(kind, None, *NO_TUPLES, [first]),
+        *indexed(kind, 0, first, *((value,) for value in NO_DOCUMENTS)),
+        *indexed(kind, 1, (first, first), (second, first), (first, (3, 1, (), ())), (first, None, first)),
+        *indexed(kind, 2, (first, second, first), *((first, second, value) for value in NO_DOCUMENTS)),
+        *indexed(kind, 200, full, full + (1,)),
+        *indexed(kind, 199, full[:199] + (1,) + full[200:]),
+    ]
+
+
 class RankTest(unittest.TestCase):
     def test_the_parts_are_kept(self):
         rank = Rank(*GOOD)
@@ -266,20 +281,11 @@ class RankedTest(unittest.TestCase):
                              expected)
 
     def test_wrong(self):
-        kind = errors.InvalidDocuments
-        first, second, third = (3, 0, (), ()), (5, 0, (), ()), (7, 0, (), ())
-        full = tuple((key, 0, (), ()) for key in range(1, 202))
-        wrongs = [
-            *indexed(kind, None, *NO_TUPLES, [first]),
-            *indexed(kind, 0, first, *((value,) for value in NO_DOCUMENTS)),
-            *indexed(kind, 1, (first, first), (second, first), (first, (3, 1, (), ())), (first, None, first)),
-            *indexed(kind, 2, (first, second, first), *((first, second, value) for value in NO_DOCUMENTS)),
-            *indexed(kind, 200, full, full + (1,)),
-            *indexed(kind, 199, full[:199] + (1,) + full[200:]),
-        ]
-        taken = indexed(kind, 1, ((2, 0, (), ()), (999, 1, (), ())), (first, (999, 0, (), ()), first))
+        first = (3, 0, (), ())
+        taken = indexed(errors.InvalidDocuments, 1, ((2, 0, (), ()), (999, 1, (), ())), (first, (999, 0, (), ()), first))
         largest = ((999, 9999, ("a",) * 400, (None,) * 400),)
-        check_calls(self, ranked, ("documents", largest, wrongs), ("further", full[:200], wrongs + taken),
+        full = tuple((key, 0, (), ()) for key in range(1, 201))
+        check_calls(self, ranked, ("documents", largest, wrong_documents()), ("further", full, wrong_documents() + taken),
                     ("question", CAT, given(errors.InvalidQuestion, *NO_QUESTIONS)),
                     ("rank", Rank(*GOOD), given(errors.NotARank, *NO_OBJECTS, GOOD)),
                     ("many", 40, given(errors.InvalidNumber, *NO_NUMBERS, 0, 41)))

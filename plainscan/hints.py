@@ -1,7 +1,7 @@
 """Hints: the terms of row documents that begin in some way, or are like a string but for one sign."""
 
 from plainscan.errors import InvalidTerm
-from plainscan.questions import is_term
+from plainscan.questions import need_term
 from plainscan.ranking import need_documents
 from plainscan.spreads import all_spreads, by_number
 from plainscan.values import MOST_SIGNS, SIGNS, is_made_of, need_many
@@ -24,12 +24,6 @@ def neighbours(documents, term, many):
     need_many(many)
     spreads = all_spreads(documents, "any")
     return by_number({other: spread for other, spread in spreads.items() if is_neighbour(term, other)})[:many]
-
-
-def need_term(term):
-    """An error for what is no term."""
-    if not is_term(term):
-        raise InvalidTerm(term)
 
 
 def is_neighbour(term, other):

@@ -1,6 +1,6 @@
 """Rows, atoms and questions: what is one, how it is written, and when it holds."""
 
-from plainscan.errors import InvalidQuestion, InvalidRow, InvalidText
+from plainscan.errors import InvalidQuestion, InvalidRow, InvalidTerm, InvalidText
 from plainscan.values import SIGNS, SMALL_OR_FIGURES, is_made_of, is_number, is_one_of, is_tuple_of
 
 FIELDS = ("head", "body", "any")
@@ -97,6 +97,12 @@ def need_row(row):
     """An error for what is no row."""
     if not is_row(row):
         raise InvalidRow(row)
+
+
+def need_term(term):
+    """An error for what is no term."""
+    if not is_term(term):
+        raise InvalidTerm(term)
 
 
 def question_text(question):

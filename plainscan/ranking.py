@@ -170,9 +170,12 @@ def all_ranked(documents, further, question, rank):
     """All rows of the same, of what surely is all this."""
     counted = documents if rank.counted == "seen" else documents + further
     spreads = spreads_of(terms_scored(question), counted)
-    rows = []
-    for key, day, head, body in documents:
-        if holds_for(question, head, body):
-            worth = score_of(question, rank, head, body, spreads)
-            rows.append((-worth, tie_of(day, rank.ties), key))
-    return tuple([(key, -worth) for worth, _, key in sorted(rows)])
+    scored = [(key, day, score_of(question, rank, head, body, spreads)) for key, day, head, body in documents
+              if holds_for(question, head, body)]
+    return in_order(scored, rank.ties)
+
+
+def in_order(scored, ties):
+    """The pairs (KEY, SCORE) of triples (KEY, DAY, SCORE), ranked."""
+    rows = sorted([(-worth, tie_of(day, ties), key) for key, day, worth in scored])
+    return tuple([(key, -worth) for worth, _, key in rows])

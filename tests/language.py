@@ -222,6 +222,22 @@ def check_names(look):
             look.find("L15", node, f"{name} has the name of an import or a class")
 
 
+def check_inner_comprehensions(look):
+    """The variables of a comprehension inside another one are not names that stand further out."""
+    comprehensions = (ast.ListComp, ast.SetComp, ast.DictComp, ast.GeneratorExp)
+    for node in look.of(*comprehensions):
+        around, is_inner = look.parents[node], False
+        while not isinstance(around, (ast.FunctionDef, ast.Module)):
+            is_inner = is_inner or isinstance(around, (*comprehensions, ast.Lambda))
+            around = look.parents[around]
+        own = set(ast.walk(node))
+        named = {part.id for one in node.generators for part in ast.walk(one.target) if isinstance(part, ast.Name)}
+        others = {part.id for part in ast.walk(around) if isinstance(part, ast.Name) and isinstance(part.ctx, ast.Store)
+                  and part not in own} | {part.arg for part in ast.walk(around) if isinstance(part, ast.arg)}
+        if is_inner and named & others - {"_"}:
+            look.find("L7", node, f"an inner comprehension over {named & others}")
+
+
 def bound_names(look):
     """The names of functions, parameters and local variables, with where they are bound."""
     found = [(node.arg, node) for node in look.of(ast.arg)]
@@ -292,6 +308,8 @@ def check_sets(look):
         fine = isinstance(parent, ast.Compare) or (
             isinstance(parent, ast.Call) and isinstance(parent.func, ast.Name) and parent.func.id in ("sorted", "len"))
         stored = isinstance(parent, ast.Assign) and isinstance(parent.targets[0], ast.Name)
+        if isinstance(node, ast.Set) and any(isinstance(one, ast.Starred) for one in node.elts):
+            look.find("L7", node, "a star in a set")
         if not fine and not (stored and plainly_used(look, parent)):
             look.find("L24", node, "a set where none may stand")
 
@@ -332,7 +350,7 @@ def check_attributes(look):
 
 
 CHECKS = (check_text, check_imports, check_module_level, check_functions, check_dunders, check_statements, check_names,
-          check_values, check_at_once, check_sets, check_attributes)
+          check_inner_comprehensions, check_values, check_at_once, check_sets, check_attributes)
 
 
 def findings(name, text, package_classes=(), package_methods=()):

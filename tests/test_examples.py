@@ -102,7 +102,37 @@ PAGES = r'''
 >>> [page_of(log, plain, (2, 0), "a", cat, rank, 1), page_of(log, plain, (2, 1), "a", cat, rank, 1), page_of(log, plain, (2, 5), "a", cat, rank, 1)]
 [((2, 1), ((7, 2),), True), ((2, 2), ((4, 2),), False), ((2, 5), (), False)]
 '''
-BLOCKS = (WORDS, WORDLIKES, RIGHTS, DOCUMENTS, QUESTIONS, QUESTIONLIKES, RANKING, RANKINGLIKES, SCANS, HINTS, PAGES)
+WINDOWS = r'''
+>>> from plainscan.windows import cut_out, excerpt, is_shown, least_window, spots
+>>> head, body = ("dog",), ("cat", "red", None, "cat", "dog", "cat")
+>>> pair = ("all", (cat, ("word", "any", "dog"), ("not", ("word", "head", "cat"))))
+>>> [least_window(pair, head, body), cut_out(head, body, ((0, 0), (3, 5))), is_shown(pair, head, body, ((0, 0), (0, 4))), is_shown(pair, head, body, ((0, 1), (0, 1))), least_window(("not", pair), head, body), least_window(("not", row), head, body)]
+[((0, 0), (3, 5)), ((None,), (None, None, None, 'cat', 'dog', None)), False, True, None, ((0, 0), (0, 0))]
+>>> [spots(plain, "It's  2 dogs-dogs."), excerpt(plain, "It's  2 dogs-dogs.", (1, 3)), excerpt(plain, "'tis", (0, 1)), excerpt(plain, "cat", (0, 0))]
+[((0, 4), (6, 7), (8, 12), (13, 17)), '2 dogs', 'tis', '']
+'''
+TALLIES = r'''
+>>> from plainscan.tallies import added_days, added_terms, tally_days, tally_terms
+>>> [tally_days(rows, cat, 5), tally_days(rows, cat, 10), tally_terms(rows, ("not", near), "body"), added_days((((5, 1),), ((0, 2), (5, 2)))), added_terms(((("cat", 2), ("dog", 1)), (("dog", 2), ("cat", 1), ("eel", 3))))]
+[((5, 3),), ((0, 3),), (('cat', 1), ('dog', 1)), ((0, 2), (5, 3)), (('cat', 3), ('dog', 3), ('eel', 3))]
+'''
+PARTS = r'''
+>>> from plainscan.parts import Part, all_terms, merged, part_of, plain_part, reading, term_list
+>>> early, late = part_of(log, 1, 2), part_of(log, 3, 5)
+>>> [len(early), len(late), late.entries[1], (early + late).entries == part_of(log, 1, 5).entries, reading((late, early), 4) == log.documents(4)]
+[2, 2, (7, 5, None), True, True]
+>>> [len(merged((early, late), 5)), len(merged((early, late), 5, whole=True)), len(merged((late,), 5, whole=True)), plain_part(log, 5) == merged((late, merged((early,), 2)), 5, whole=True), len(plain_part(log, 4))]
+[2, 1, 1, True, 3]
+>>> [term_list((early, late), plain, 3, "cat"), all_terms((early, late), plain, 5)]
+[((4, (), (4,)), (7, (), (1,))), ('and', 'cat', 'dog')]
+'''
+SEARCHES = r'''
+>>> from plainscan.searches import search
+>>> [search((late, early), log.policy(3), plain, 3, "a", cat, rank, 5), search((early,), log.policy(3), plain, 3, "", cat, rank, 5), search((), log.policy(0), plain, 0, "", ("not", cat), rank, 5)]
+[((7, 2), (4, 2)), ((4, 3),), ()]
+'''
+BLOCKS = (WORDS, WORDLIKES, RIGHTS, DOCUMENTS, QUESTIONS, QUESTIONLIKES, RANKING, RANKINGLIKES, SCANS, HINTS, PAGES,
+          WINDOWS, TALLIES, PARTS, SEARCHES)
 
 
 class ExamplesTest(unittest.TestCase):

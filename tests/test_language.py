@@ -27,6 +27,11 @@ INTERFACE = {
     "scans": {"row_documents": None, "scan": None, "scan_count": None},
     "hints": {"begun": None, "neighbours": None},
     "pages": {"is_place": None, "page_of": None},
+    "windows": {"is_window": None, "cut_out": None, "is_shown": None, "least_window": None, "spots": None, "excerpt": None},
+    "tallies": {"tally_days": None, "tally_terms": None, "added_days": None, "added_terms": None},
+    "parts": {"Part": ("__len__", "__eq__", "__add__"), "part_of": None, "merged": None, "plain_part": None, "reading": None,
+              "term_list": None, "all_terms": None},
+    "searches": {"search": None},
 }
 
 
@@ -116,6 +121,10 @@ class LookTest(unittest.TestCase):
     def test_wrong_code_is_found(self):
         for rule, text in self.WRONG.items():
             self.assertTrue([one for one in findings("x.py", text) if one.startswith(rule + " ")], (rule, text))
+
+    def test_comprehensions_and_stars(self):
+        for text in ("def f(xs, y):\n    return [[y for y in x] for x in xs]\n", "def f(xs):\n    return sorted({*xs})\n"):
+            self.assertTrue([one for one in findings("x.py", text) if one.startswith("L7 ")], text)
 
     def test_right_code_is_not(self):
         text = "N = 2\n\n\ndef f(xs):\n    seen = set()\n    for x in xs:\n        seen.add(x)\n    return len(seen) + N\n"

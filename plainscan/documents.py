@@ -14,6 +14,12 @@ def is_key(value):
     return is_number(value, 1, LARGEST_KEY)
 
 
+def need_key(value):
+    """An error for what is no key."""
+    if not is_key(value):
+        raise InvalidNumber(value)
+
+
 def is_day(value):
     """Whether a value is a day."""
     return is_number(value, 0, LARGEST_DAY)

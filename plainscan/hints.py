@@ -7,11 +7,16 @@ from plainscan.spreads import all_spreads, by_number
 from plainscan.values import MOST_SIGNS, SIGNS, is_made_of, need_many
 
 
+def need_start(start):
+    """An error for what is no begin of terms."""
+    if not is_made_of(start, SIGNS, 0, MOST_SIGNS) or " " in start:
+        raise InvalidTerm(start)
+
+
 def begun(documents, start, many):
     """The first many pairs (TERM, SPREAD) of the terms that begin with a string."""
     need_documents(documents)
-    if not is_made_of(start, SIGNS, 0, MOST_SIGNS) or " " in start:
-        raise InvalidTerm(start)
+    need_start(start)
     need_many(many)
     spreads = all_spreads(documents, "any")
     return by_number({term: spread for term, spread in spreads.items() if term.startswith(start)})[:many]

@@ -15,18 +15,27 @@ def is_place(value):
     return is_tuple_of(value, 2, 2) and is_count(value[0]) and is_count(value[1])
 
 
+def need_place(place):
+    """An error for what is no place."""
+    if not is_place(place):
+        raise InvalidPlace(place)
+
+
 def page_of(log, rule, place, asker, question, rank, many):
     """The page at a place: the triple (NEXT PLACE, ROWS, IS_MORE)."""
     need_log(log)
     need_rule(rule)
-    if not is_place(place):
-        raise InvalidPlace(place)
+    need_place(place)
     need_asker(asker)
     need_question(question)
     need_rank(rank)
     need_many(many)
+    return page_in(counted_scan(log, rule, place[0], asker, question, rank), place, many)
+
+
+def page_in(rows, place, many):
+    """The same, told all rows of the plain scan."""
     count, at = place
-    rows = counted_scan(log, rule, count, asker, question, rank)
     told = rows[at:at + many]
     behind = at + len(told)
     return ((count, behind), told, behind < len(rows))

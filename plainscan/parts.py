@@ -73,6 +73,11 @@ def part_of(log, first, last):
     return part_with(sorted(entries_of(log, first, last)))
 
 
+def part_of_lot(log, first, last, lots, lot):
+    """The part of those of such entries that have keys of a lot, of what surely is all this."""
+    return part_with(sorted([entry for entry in entries_of(log, first, last) if entry[0] % lots == lot]))
+
+
 def entries_of(log, first, last):
     """The entries of the changes of a log from one number to another one, by their numbers."""
     entries = []

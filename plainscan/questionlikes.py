@@ -33,6 +33,11 @@ def first_state(look):
     return 0
 
 
+def begin_of(looks):
+    """The state of all looks at the begin of a row."""
+    return tuple([first_state(look) for look in looks])
+
+
 def state_behind(look, state, term):
     """The state of a look behind one place more, at which a term stands, or None."""
     if look[0] == "row":
@@ -83,7 +88,7 @@ def state_of(question, other, row):
     """The state of a row for the looks of both questions."""
     looks = looks_of(question, other)
     need_row(row)
-    state = tuple([first_state(look) for look in looks])
+    state = begin_of(looks)
     for term in row:
         state = step(looks, state, term)
     return state
@@ -112,11 +117,10 @@ def things(looks):
     return unlike([*named, STRANGE])
 
 
-def reached(question, other):
+def reached(looks):
     """For each state of a row a shortest row that has it, the states in the order of these rows' lengths."""
-    looks = looks_in(question, other)
     terms = things(looks)
-    layer = [tuple([first_state(look) for look in looks])]
+    layer = [begin_of(looks)]
     rows = {layer[0]: ()}
     while layer:
         later = []
@@ -136,7 +140,7 @@ def row_states(question, other):
     """The ascending tuple of all states of rows."""
     need_question(question)
     need_question(other)
-    return tuple(sorted(reached(question, other)))
+    return tuple(sorted(reached(looks_in(question, other))))
 
 
 def finds_no_more(question, other):
@@ -156,7 +160,11 @@ def parting_rows(question, other):
     """
     need_question(question)
     need_question(other)
-    rows = reached(question, other)
+    return parted(question, other, reached(looks_in(question, other)))
+
+
+def parted(question, other, rows):
+    """Such a pair of some rows, each told by its state; None if there is none."""
     atoms = unlike(all_atoms(question) + all_atoms(other))
     looks = looks_in(question, other)
     heads = rows_by_mask(rows, looks, [atom if atom[1] != "body" else None for atom in atoms])

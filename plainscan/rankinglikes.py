@@ -2,9 +2,9 @@
 
 from math import gcd
 
-from plainscan.errors import InvalidStep
+from plainscan.errors import InvalidStep, Trace
 from plainscan.ranking import at_or_last, need_rank
-from plainscan.values import is_count, is_one_of, is_tuple_of, need_number
+from plainscan.values import is_count, is_from_one, is_one_of, is_tuple_of, need_number
 
 NEVER = (0, 0)
 BONUS = ("bonus",)
@@ -76,7 +76,7 @@ def is_step(value):
     if not is_tuple_of(value, 4, 4):
         return False
     kind, number, stood, other = value
-    if not is_one_of(kind, ("word",)) or not is_count(number) or number == 0:
+    if not is_one_of(kind, ("word",)) or not is_from_one(number):
         return False
     # Of a term of the first class one document at most can have some.
     return is_times(stood) and is_times(other) and (number > 1 or NEVER in (stood, other))
@@ -217,6 +217,12 @@ def shows_trace(rank):
     """Whether documents that are not seen can change the scores or the order of those that are."""
     need_rank(rank)
     return rank.counted == "all" and not rank.is_blind()
+
+
+def need_traceless(rank):
+    """An error for a rank that shows a trace."""
+    if shows_trace(rank):
+        raise Trace()
 
 
 def trace(rank):

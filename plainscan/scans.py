@@ -1,10 +1,9 @@
 """Plain scans of a log: the seen documents for which a question holds, ranked."""
 
 from plainscan.documents import need_log
-from plainscan.errors import Trace
 from plainscan.questions import need_question
 from plainscan.ranking import all_ranked, need_rank
-from plainscan.rankinglikes import shows_trace
+from plainscan.rankinglikes import need_traceless
 from plainscan.rights import need_asker
 from plainscan.values import need_count, need_many, need_number
 from plainscan.words import need_rule
@@ -60,7 +59,6 @@ def scan_count(log, rule, count, asker, question, rank, many):
 
 def counted_scan(log, rule, count, asker, question, rank):
     """All pairs of the same, of what surely is all this but for traces and counts that no version has."""
-    if shows_trace(rank):
-        raise Trace()
+    need_traceless(rank)
     version, _ = log.versions(count, asker)
     return whole_scan(log, rule, version, asker, question, rank)

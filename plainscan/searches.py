@@ -1,11 +1,10 @@
 """Searches: the plain scan of what parts read, told from term lists alone."""
 
 from plainscan.documents import MOST_CHANGES, seen_set
-from plainscan.errors import Trace
 from plainscan.parts import documents_read, need_parts, term_lists
 from plainscan.questions import all_atoms, all_open, judged, need_question, terms_scored, unlike
 from plainscan.ranking import in_order, need_rank
-from plainscan.rankinglikes import shows_trace
+from plainscan.rankinglikes import need_traceless
 from plainscan.rights import need_asker, need_policy
 from plainscan.values import need_many, need_number
 from plainscan.words import need_rule
@@ -25,8 +24,7 @@ def search(parts, policy, rule, version, asker, question, rank, many):
     need_question(question)
     need_rank(rank)
     need_many(many)
-    if shows_trace(rank):
-        raise Trace()
+    need_traceless(rank)
     documents = documents_read(parts, version)
     days = {key: day for key, day, _, _ in seen_set(documents, policy, asker)}
     return answer(term_lists(documents, rule), days, question, rank)[:many]

@@ -5,7 +5,7 @@ from plainscan.errors import InvalidField, InvalidTallies
 from plainscan.questions import holds_for, is_field, is_term, need_question
 from plainscan.ranking import need_documents
 from plainscan.spreads import all_spreads, by_number
-from plainscan.values import is_count, is_tuple_of, need_number
+from plainscan.values import is_from_one, is_tuple_of, need_number
 
 WIDEST_SPAN = LARGEST_DAY + 1
 
@@ -15,11 +15,22 @@ def found_documents(documents, question):
     return [document for document in documents if holds_for(question, document[2], document[3])]
 
 
+def need_span(span):
+    """An error for what is no span of days."""
+    need_number(span, 1, WIDEST_SPAN)
+
+
+def need_field(field):
+    """An error for what is no field."""
+    if not is_field(field):
+        raise InvalidField(field)
+
+
 def tally_days(documents, question, span):
     """The found documents by days: pairs (DAY, NUMBER) for each multiple of a span that has some, ascending."""
     need_documents(documents)
     need_question(question)
-    need_number(span, 1, WIDEST_SPAN)
+    need_span(span)
     numbers = {}
     for _, day, _, _ in found_documents(documents, question):
         first = day // span * span
@@ -31,19 +42,18 @@ def tally_terms(documents, question, field):
     """The found documents by terms: pairs (TERM, NUMBER) for each term that some have in a field."""
     need_documents(documents)
     need_question(question)
-    if not is_field(field):
-        raise InvalidField(field)
+    need_field(field)
     return by_number(all_spreads(found_documents(documents, question), field))
 
 
 def is_day_number(value):
     """Whether a value is a pair (DAY, NUMBER)."""
-    return is_tuple_of(value, 2, 2) and is_day(value[0]) and is_count(value[1]) and value[1] > 0
+    return is_tuple_of(value, 2, 2) and is_day(value[0]) and is_from_one(value[1])
 
 
 def is_term_number(value):
     """Whether a value is a pair (TERM, NUMBER)."""
-    return is_tuple_of(value, 2, 2) and is_term(value[0]) and is_count(value[1]) and value[1] > 0
+    return is_tuple_of(value, 2, 2) and is_term(value[0]) and is_from_one(value[1])
 
 
 def are_unlike(pairs):

@@ -19,6 +19,11 @@ def is_count(value):
     return type(value) is int and value >= 0
 
 
+def is_from_one(value):
+    """Whether a value is a whole number from 1 on."""
+    return is_count(value) and value > 0
+
+
 def is_one_of(value, words):
     """Whether a value is one of some strings."""
     return type(value) is str and value in words

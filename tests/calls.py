@@ -59,3 +59,24 @@ def check_calls(test, call, *arguments):
                 passed = goods[:at] + [value] + worst[at + 1:]
                 check_error(test, raised(call, *passed), kind, told, value)
                 check_error(test, raised(call, **dict(zip(names, passed))), kind, told, value)
+
+
+def fresh(make, name, look):
+    """A call of a method of a new object each time; behind an error all that is looked at is as it was."""
+    def call(*args, **named):
+        thing = make()
+        before = look(thing)
+        try:
+            return getattr(thing, name)(*args, **named)
+        except ValueError:
+            assert look(thing) == before, f"{name} changed something and raised an error"
+            raise
+    return call
+
+
+def told_by(call, *args, **named):
+    """What a call returns, or the pair of the class of its error and of what the error tells."""
+    try:
+        return call(*args, **named)
+    except ValueError as error:
+        return type(error), vars(error)

@@ -131,8 +131,97 @@ SEARCHES = r'''
 >>> [search((late, early), log.policy(3), plain, 3, "a", cat, rank, 5), search((early,), log.policy(3), plain, 3, "", cat, rank, 5), search((), log.policy(0), plain, 0, "", ("not", cat), rank, 5)]
 [((7, 2), (4, 2)), ((4, 3),), ()]
 '''
+LOOKS = r'''
+>>> from plainscan.looks import any_fewest, best_keys, fewest_looks, settled, sums_of
+>>> lists = (((9, 5), (4, 2), (1, 7)), ((6, 5), (6, 8), (2, 2)))
+>>> [best_keys(lists, 2), sums_of(lists, (1, 1), 8), sums_of(lists, (1, 2), 2), settled(lists, (1, 1), 1), settled(lists, (1, 1), 2), settled(lists, (2, 3), 2)]
+[(5, 2), (0, 15), (0, 13), (5,), None, None]
+>>> [settled(lists, (2, 2), 1), fewest_looks(lists, 1), fewest_looks(lists, 2), settled(lists, any_fewest(lists, 2), 2), settled(lists, (3, 3), 9)]
+[(5,), 2, 6, (5, 2), (5, 2, 8, 7)]
+'''
+FLEETS = r'''
+>>> from plainscan.fleets import Fleet, held_counts, served_count, weak_sets
+>>> fleet = Fleet(1, 3)
+>>> fleet.place(0, 0)
+>>> fleet.place(2, 0)
+>>> fleet.ship(0, 0, 2)
+>>> fleet.ship(2, 0, 4)
+>>> fleet.clean(2, 0, 3)
+>>> [fleet.copies, held_counts(fleet, log, "a"), served_count(fleet, log, "a", 0), served_count(fleet, log, "", 0), served_count(fleet, log, "f", 2), weak_sets(fleet, log, "", 0)]
+[((0, 0, 0, 2), (2, 0, 3, 4)), (0, 1, 2), None, 2, 2, ((2,),)]
+>>> fleet.ship(0, 0, 1)
+raises InvalidNumber(given=1)
+'''
+CACHES = r'''
+>>> from plainscan.caches import Cache
+>>> cache = Cache(2)
+>>> cache.keep((1,), ((5, 5),))
+>>> cache.keep((2,), ())
+>>> [cache.find((1,)), cache.find((3,)), cache.marks]
+[((5, 5),), None, ((2,), (1,))]
+>>> cache.keep((3,), ((7, 1),))
+>>> [cache.find((2,)), cache.find((1,)), len(cache)]
+[None, ((5, 5),), 2]
+'''
+KEPT = r'''
+>>> from plainscan.kept import Receiver, joined, keys_behind, notes_of, true_list
+>>> tells = true_list(log, plain, "a", cat, 0)
+>>> [tells, true_list(log, plain, "", cat, 1), joined((notes_of(log, plain, "a", cat, 0, 3, 2, 1), notes_of(log, plain, "a", cat, 0, 3, 2, 0), notes_of(log, plain, "a", cat, 0, 2, 2, 1))) == tells, keys_behind((), tells)]
+[((1, 1, 'came', 4), (2, 2, 'came', 7), (3, 3, 'went', 7)), ((1, 2, 'went', 4),), True, (4,)]
+>>> receiver = Receiver()
+>>> [receiver.take(tells[1]), receiver.take(tells[1]), receiver.waiting, receiver.take(tells[0]), receiver.take(tells[2]), receiver.told == tells]
+[(), (), ((2, 2, 'came', 7),), ((1, 1, 'came', 4), (2, 2, 'came', 7)), ((3, 3, 'went', 7),), True]
+>>> receiver.take((3, 3, "went", 4))
+raises Clash(number=3)
+'''
+DESKS = r'''
+>>> from plainscan.desks import Desk
+>>> desk = Desk(plain, lots=2, houses=2, cache=4)
+>>> for change in log.changes[:2]:
+...     desk.put(change[1])
+>>> desk.policy((("pay", a),))
+>>> for lot in (0, 1):
+...     desk.place(lot, lot)
+...     desk.ship(lot, lot, 3)
+>>> [desk.ask("a", cat, rank, 5), desk.ask("", cat, rank, 5), len(desk.marks), desk.watch("a", cat), desk.neighbours("", "dot", 3)]
+[(2, ((7, 2), (4, 2))), (1, ((4, 3),)), 2, 0, (1, (('dog', 1),))]
+>>> [desk.page("a", cat, rank, 1), desk.page("a", cat, rank, 1, place=(2, 1)), desk.why("a", cat, 7), desk.why("", cat, 7), desk.tally_terms("a", cat, "any", 2), desk.tally_days("", cat, 10)]
+[((2, 1), ((7, 2),), True), ((2, 2), ((4, 2),), False), (2, ('', "cat's")), (1, None), (2, (('cat', 2), ('and', 1))), (1, ((20, 1),))]
+>>> desk.label(4, ("pay",))
+>>> desk.gone(7)
+>>> desk.ship(0, 0, 5)
+>>> desk.ask("", cat, rank, 5)
+raises Unserved()
+>>> desk.ship(1, 1, 4)
+>>> desk.ask("", cat, rank, 5)
+(2, ())
+>>> desk.ask("a", cat, rank, 5)
+raises Unserved()
+>>> desk.page("a", cat, rank, 1, place=(2, 1))
+raises Passed(given=2)
+>>> desk.ship(1, 1, 5)
+>>> [desk.ask("a", cat, rank, 5), desk.tells(0), desk.undo(), len(desk), desk.log.documents(6) == desk.log.documents(4)]
+[(3, ((4, 3),)), (2, ((1, 3, 'went', 7),)), None, 6, True]
+'''
+CONSOLES = r'''
+>>> from plainscan.consoles import Console
+>>> console = Console(desk, rank)
+>>> list(map(console.say, ["page a - - 1 word(any, cat)", "page a 3 1 1 word(any, cat)", "why a 4 word(any, cat)", "why a 7 word(any, cat)", "days a 10 word(any, cat)", "terms a body 1 word(any, cat)"]))
+['3 1 end: 4 3', '3 1 end: none', '3:  | cat', '3: none', '3: 20 1', '3: and 1']
+>>> list(map(console.say, ["version", "ship 0 0 6", "ship 1 1 6", "ask a 5 any(word(any, cat))", "put 9 3 - | Cats | cat", "fence a", "tells 0", "begun - 3 c", "undo", "copies"]))
+['6', 'done', 'done', '4: 7 2, 4 2', 'done', '3', '2: 3 went 7, 4 came 7', '2: none', 'done', '0 0 0 6, 1 1 0 6']
+'''
+CERTIFICATES = r'''
+>>> from plainscan.checker import accepts
+>>> from plainscan.certificates import certify_finds, certify_ranked, certify_served, certify_settled
+>>> claim, paper = certify_finds(close, row)
+>>> [claim == ("finds more", close, row), accepts(claim, ((), ("cat", "red"))), accepts(claim, ((), ("red", "cat"))), accepts(("ranked alike", one.parts, two.parts), (4, 2)), accepts(("ranked alike", one.parts, three.parts), (1, 1))]
+[True, True, False, True, False]
+>>> [certify_settled(lists, (1, 1), 1), certify_served(fleet, log, "a", 0), certify_served(fleet, log, "", 1)]
+[(('settled', (((9, 5), (4, 2), (1, 7)), ((6, 5), (6, 8), (2, 2))), 1, (5,)), (1, 1)), (('unserved', 1, ((0, 0, 0, 2), (2, 0, 3, 4)), (('put', (4, 20, (), 'Dogs', 'A dog and a cat')), ('put', (7, 21, ('pay',), 'Pay', "The cat's pay")), ('policy', (('pay', ('badge', 'a')),)), ('label', 4, ('pay',)), ('gone', 7)), 'a', 0), ()), (('served', 1, ((0, 0, 0, 2), (2, 0, 3, 4)), (('put', (4, 20, (), 'Dogs', 'A dog and a cat')), ('put', (7, 21, ('pay',), 'Pay', "The cat's pay")), ('policy', (('pay', ('badge', 'a')),)), ('label', 4, ('pay',)), ('gone', 7)), '', 1, 2), ((2, 4),))]
+'''
 BLOCKS = (WORDS, WORDLIKES, RIGHTS, DOCUMENTS, QUESTIONS, QUESTIONLIKES, RANKING, RANKINGLIKES, SCANS, HINTS, PAGES,
-          WINDOWS, TALLIES, PARTS, SEARCHES)
+          WINDOWS, TALLIES, PARTS, SEARCHES, LOOKS, FLEETS, CACHES, KEPT, DESKS, CONSOLES, CERTIFICATES)
 
 
 class ExamplesTest(unittest.TestCase):

@@ -32,6 +32,20 @@ INTERFACE = {
     "parts": {"Part": ("__len__", "__eq__", "__add__"), "part_of": None, "merged": None, "plain_part": None, "reading": None,
               "term_list": None, "all_terms": None},
     "searches": {"search": None},
+    "looks": {"best_keys": None, "sums_of": None, "settled": None, "fewest_looks": None, "any_fewest": None},
+    "fleets": {"Fleet": ("place", "ship", "clean", "lose", "back", "move"), "held_counts": None, "served_count": None,
+               "weak_sets": None},
+    "caches": {"Cache": ("find", "keep", "__len__")},
+    "kept": {"true_list": None, "notes_of": None, "joined": None, "keys_behind": None, "Receiver": ("take",)},
+    "desks": {"Desk": ("__len__", "put", "gone", "label", "policy", "undo", "place", "ship", "clean", "lose", "back", "move",
+                       "merge", "parts_of", "ask", "begun", "neighbours", "watch", "drop", "tells", "page", "why", "tally_days",
+                       "tally_terms", "trial", "tried")},
+    "consoles": {"Console": ("say",)},
+    "checker": {"accepts": None},
+    "certificates": {"certify_read": None, "certify_finds": None, "certify_ranked": None, "certify_trace": None,
+                     "certify_shows": None, "certify_scanned": None, "certify_shown": None, "certify_page": None,
+                     "certify_settled": None, "certify_fewest": None, "certify_plain": None, "certify_served": None,
+                     "certify_true": None},
 }
 
 

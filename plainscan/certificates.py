@@ -1,6 +1,5 @@
 """Certificates: claims that are so, each with a paper that the checker accepts."""
 
-from plainscan.documents import need_log
 from plainscan.fleets import readings_in, served_count
 from plainscan.kept import true_list
 from plainscan.looks import any_fewest, settled
@@ -59,8 +58,8 @@ def certify_shows(policy, other):
 
 def certify_scanned(rule, log, count, asker, question, rank, many):
     """The plain scan at a count."""
+    # A scan looks at the log first.
     need_rule(rule)
-    need_log(log)
     rows = scan_count(log, rule, count, asker, question, rank, many)
     return (("scanned", rule.parts, log.changes, count, asker, question, rank.parts, many, rows), ())
 
@@ -110,7 +109,7 @@ def certify_served(fleet, log, asker, least):
 
 def certify_true(rule, log, asker, question, first):
     """The true list of a kept search."""
+    # The true list looks at the log first.
     need_rule(rule)
-    need_log(log)
     tells = true_list(log, rule, asker, question, first)
     return (("true list", rule.parts, log.changes, asker, question, first, tells), ())

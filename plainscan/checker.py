@@ -26,11 +26,9 @@ def is_nothing(paper):
 
 def is_exactly(value, told):
     """Whether a value, whatever it is, is the told one, with no number taken for True or False."""
-    if type(value) is not type(told):
-        return False
-    if type(told) is not tuple:
-        return value == told
-    return len(value) == len(told) and all([is_exactly(one, other) for one, other in zip(value, told)])
+    if type(value) is tuple and type(told) is tuple:
+        return len(value) == len(told) and all([is_exactly(one, other) for one, other in zip(value, told)])
+    return type(value) is type(told) and value == told
 
 
 def rule_of(parts):

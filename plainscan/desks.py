@@ -50,7 +50,7 @@ class Held:
         self.parts = desk._parts
         self.undoable = desk._undoable
         self.kept = desk._kept
-        self.next = desk._next
+        self.coming = desk._coming
 
 
 class Trial:
@@ -76,7 +76,7 @@ class Trial:
             desk._parts = self.held.parts
             desk._undoable = self.held.undoable
             desk._kept = self.held.kept
-            desk._next = self.held.next
+            desk._coming = self.held.coming
         self.held = self.held.outer
 
 
@@ -98,7 +98,8 @@ class Desk:
         self._undoable = ()
         # For each kept search (ASKER, QUESTION, BEGUN, COME): the counts with which it began and to which it has come.
         self._kept = {}
-        self._next = 0
+        # The number of the search that is begun next.
+        self._coming = 0
 
     def __len__(self):
         return len(self.log.changes)
@@ -275,9 +276,9 @@ class Desk:
             raise Unserved()
         if len(self._kept) == MOST_SEARCHES:
             raise TooMany(MOST_SEARCHES)
-        number = self._next
+        number = self._coming
         self._kept = {**self._kept, number: (asker, question, count, count)}
-        self._next = number + 1
+        self._coming = number + 1
         self._show_searches()
         return number
 

@@ -12,7 +12,7 @@ LONGEST_TRIED = 8
 # It stands in front of all keys, so each key is above it.
 NO_KEY = 0
 # It stands behind all places that keys can have.
-NO_RIVAL = (1, NO_KEY)
+NO_RIVAL = (1, 0)
 
 
 def is_pair(value):

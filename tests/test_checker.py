@@ -161,6 +161,42 @@ class BentTest(unittest.TestCase):
         self.assertIs(accepts(("settled", (nine,), 1, (1,)), (1,)), True)
 
 
+    def test_copies_that_no_fleet_tells(self):
+        one = (0, 0, 0, 1)
+        for copies in ((one,), ((5, 0, 0, 200),), (one, (5, 0, 1, 1)), ((0, 0, 200, 200), (1, 0, 0, 0)), ()):
+            self.assertIs(accepts(("unserved", 1, copies, CHANGES, "a", 4), ()), True, copies)
+            self.assertIs(accepts(("unserved", 2, (*copies, (5, 1, 0, 0)), CHANGES, "a", 4), ()), True, copies)
+        for copy in ((-1, 0, 0, 1), (6, 0, 0, 1), (0, -1, 0, 1), (0, 1, 0, 1), (0, 0, 2, 1), (0, 0, -1, 1), (0, 0, 0, 201), (0, 0, 0, -1), (0, 0, 201, 201),
+                     (0, 0, 0), (0, 0, 0, 1, 1), (0,), (), [0, 0, 0, 1], (True, 0, 0, 1), (0, False, 0, 1), (0, 0, False, 1), (0, 0, 0, True), None, 5, "copy"):
+            for copies in ((copy,), ((0, 0, 0, 0), copy), (copy, (5, 0, 0, 5))):
+                self.assertIs(accepts(("unserved", 1, copies, CHANGES, "a", 4), ()), False, copies)
+                self.assertIs(accepts(("served", 1, copies, CHANGES[:1], "", 0, 1), ((5, 1),)), False, copies)
+        for copies in ((one, one), (one, (0, 0, 1, 1)), ((5, 0, 0, 5), one), [one]):
+            self.assertIs(accepts(("unserved", 1, copies, CHANGES, "a", 4), ()), False, copies)
+        for lots in (0, 5, -1, True, None, "1"):
+            self.assertIs(accepts(("unserved", lots, (), CHANGES, "a", 4), ()), False, lots)
+
+    def test_papers_of_served_counts(self):
+        copies = ((0, 0, 0, 1), (0, 1, 1, 4), (1, 0, 3, 4), (3, 1, 3, 200))
+        claim = ("served", 2, copies, CHANGES, "", 0, 2)
+        for paper in (((1, 4), (0, 4)), ((1, 4), (3, 4)), ((1, 4), (3, 5))):
+            self.assertIs(accepts(claim, paper), True, paper)
+        for paper in (((1, 4),), ((1, 4), (0, 4), (0, 4)), ((0, 4), (1, 4)), ((1, 5), (0, 4)), ((1, 3), (0, 4)), ((1, 4), (3, 6)), ((1, 4), (3, 200)),
+                      ((1, 4), (0, 5)), ((0, 4), (0, 4)), ((1, 4), (3, -1)), ((1, 4), (1, 4)), ((1, 4), (3, 4, 4)), ((1, 4), (3,)), [(1, 4), (3, 4)]):
+            self.assertIs(accepts(claim, paper), False, paper)
+
+    def test_ties_and_counted(self):
+        blind = ((0, 1), (0, 2), (3, 3), 1, "key", "seen")
+        seeing, other = ((0, 1), (0, 2), (3, 1), 1, "key", "all"), ((0,), (0,), (3, 1), 0, "key", "all")
+        self.assertIs(accepts(("ranked unlike", blind, seeing), "counted"), True)
+        self.assertIs(accepts(("ranked unlike", seeing, blind), "counted"), True)
+        self.assertIs(accepts(("ranked unlike", SEEN, seeing), "counted"), True)
+        self.assertIs(accepts(("ranked unlike", blind, other), "counted"), False)
+        self.assertIs(accepts(("ranked unlike", seeing, other), "counted"), False)
+        for paper in ("ties", "Ties", "count", "", "bonus", "seen"):
+            self.assertIs(accepts(("ranked unlike", SEEN, seeing), paper), False)
+
+
 class StatesTest(unittest.TestCase):
     def test_just_two_thousand_states(self):
         for pair in (FULL, DRAWN_FULL):

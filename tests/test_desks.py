@@ -133,9 +133,9 @@ class DeskTest(unittest.TestCase):
         names = [argument[0] for argument in arguments]
 
         def call(*args, **named):
-            told = {**dict(zip(names, args)), **named}
-            plain = [told[one] for one in names if one not in ("place", "least")]
-            return fresh(made, name, all_of)(*plain, **{one: told[one] for one in ("place", "least") if one in told})
+            # All by name, or all by position but the last ones.
+            last = {one: value for one, value in zip(names, args) if one in ("place", "least")}
+            return fresh(made, name, all_of)(*args[:len(args) - len(last)], **last, **named)
         check_calls(self, call, *arguments)
         self.assertRaises(TypeError, getattr(made(), name), *[good for _, good, _ in arguments])
 
@@ -160,6 +160,7 @@ class DeskTest(unittest.TestCase):
             self.assertIs(type(raised(desk.ask, "a", CAT, TRACED, 0, least=least)), errors.InvalidNumber)
             self.assertIs(type(raised(desk.page, "a", CAT, TRACED, 1, place=(9,), least=least)), errors.InvalidPlace)
         self.assertIs(type(raised(desk.page, "a", CAT, TRACED, 1, place=(9, 0), least=-1)), errors.InvalidNumber)
+        self.assertIs(type(raised(desk.ask, "a", CAT, TRACED, 1, least=-1)), errors.InvalidNumber)
         self.assertEqual(desk.ask("a", CAT, BLIND, 5), desk.ask("a", CAT, Rank(*BLIND.parts[:5]), 5))
 
     def test_unserved_just_if_no_count_is(self):
@@ -308,29 +309,29 @@ class LedTest(unittest.TestCase):
     def ask(self, draw, desk, model):
         question, parts, many = draw.choice(self.questions), draw.choice(self.ranks), draw.choice((1, 2, 3, 40))
         asker, least = draw.choice(("", "a", "a", "ab")), draw.choice((0, 0, 0, 1, 3))
-        rank = Rank(*parts)
+        rank, named = Rank(*parts), {} if least == 0 and draw.random() < 0.5 else {"least": least}
         kind = draw.choice(("ask", "ask", "ask", "page", "place", "begun", "neighbours", "why", "days", "terms", "watch", "tells"))
         if kind == "ask":
-            told = told_by(desk.ask, asker, question, rank, many, least=least), model.ask(asker, question, parts, many, least)
+            told = told_by(desk.ask, asker, question, rank, many, **named), model.ask(asker, question, parts, many, least)
         elif kind == "page":
-            told = told_by(desk.page, asker, question, rank, many, least=least), model.page(asker, question, parts, many, None, least)
+            told = told_by(desk.page, asker, question, rank, many, **named), model.page(asker, question, parts, many, None, least)
         elif kind == "place":
             place = (draw.choice((*model.held(asker), 0, 9)), draw.randint(0, 3))
             told = told_by(desk.page, asker, question, rank, many, place=place), model.page(asker, question, parts, many, place)
         elif kind == "begun":
             start = draw.choice(("", "c", "ca", "x"))
-            told = told_by(desk.begun, asker, start, many, least=least), model.begun(asker, start, many, least)
+            told = told_by(desk.begun, asker, start, many, **named), model.begun(asker, start, many, least)
         elif kind == "neighbours":
             term = draw.choice(("ct", "cta", "rd", "xc", "catt"))
-            told = told_by(desk.neighbours, asker, term, many, least=least), model.neighbours(asker, term, many, least)
+            told = told_by(desk.neighbours, asker, term, many, **named), model.neighbours(asker, term, many, least)
         elif kind == "why":
             key = draw.randint(1, 6)
-            told = told_by(desk.why, asker, question, key, least=least), model.why(asker, question, key, least)
+            told = told_by(desk.why, asker, question, key, **named), model.why(asker, question, key, least)
         elif kind == "days":
-            told = told_by(desk.tally_days, asker, question, many, least=least), model.tally_days(asker, question, many, least)
+            told = told_by(desk.tally_days, asker, question, many, **named), model.tally_days(asker, question, many, least)
         elif kind == "terms":
             field = draw.choice(("head", "body", "any"))
-            told = told_by(desk.tally_terms, asker, question, field, many, least=least), model.tally_terms(asker, question, field, many, least)
+            told = told_by(desk.tally_terms, asker, question, field, many, **named), model.tally_terms(asker, question, field, many, least)
         elif kind == "watch":
             told = told_by(desk.watch, asker, question), model.watch(asker, question)
         else:
@@ -474,6 +475,14 @@ class TrialTest(unittest.TestCase):
                     raise Stop()
             desk.put((9, *DOC[1:]))
         self.assertEqual(desk.log.changes[-2:], (("put", DOC), ("put", (9, *DOC[1:]))))
+        before = all_of(desk)
+        with self.assertRaises(Stop):
+            with trial:
+                desk.gone(9)
+                with trial:
+                    desk.gone(4)
+                raise Stop()
+        self.assertEqual(all_of(desk), before)
 
     def test_numbers_marks_and_counts_come_back(self):
         desk = made()

@@ -191,6 +191,19 @@ class SettledTest(unittest.TestCase):
         # Whatever is behind it cannot be there: no key is greater, and no points are less than 1.
         self.assertEqual(settled((((1, 999),), ((1, 999),)), (1, 1), 1), (999,))
 
+    def test_a_lesser_key_that_has_not_been_read_anywhere(self):
+        # The key 6, with 9 points next in the first list, would be as good as the key 7, and is less.
+        lists = (((9, 5), (1, 1)), ((20, 5), (9, 7)))
+        self.assertEqual(sums_of(lists, (1, 2), 6), (0, 9))
+        self.assertIsNone(settled(lists, (1, 2), 2))
+        self.assertEqual(settled(lists, (1, 2), 1), (5,))
+        self.assertEqual(settled((((9, 6), (1, 1)), ((20, 6), (9, 7))), (1, 2), 2), (6, 7))
+        # The same with the key 7, behind 5 and 6, which have been read.
+        lists = (((9, 5), (1, 1)), ((30, 5), (20, 6), (9, 8)))
+        self.assertIsNone(settled(lists, (1, 3), 3))
+        self.assertEqual(settled(lists, (1, 3), 2), (5, 6))
+        self.assertEqual(settled((((9, 5), (1, 1)), ((30, 5), (20, 6), (9, 7))), (1, 3), 3), (5, 6, 7))
+
     def test_drawn_lists(self):
         draw = random.Random(34)
         found = []

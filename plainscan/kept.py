@@ -130,19 +130,24 @@ class Receiver:
     def __init__(self):
         self.told = ()
         self.waiting = ()
+        # All tells that have come, by their numbers.
+        self._come = {}
 
     def take(self, tell):
         """Takes a tell, and returns the tuple of those that are told now."""
         if not is_tell(tell):
             raise InvalidTell(tell)
         number = tell[0]
-        for other in self.told + self.waiting:
-            if other[0] == number and other != tell:
-                raise Clash(number)
-        if tell in self.told or tell in self.waiting:
+        if self._come.get(number, tell) != tell:
+            raise Clash(number)
+        if number in self._come:
             return ()
-        waiting = sorted([*self.waiting, tell])
-        ready = [other for at, other in enumerate(waiting, start=len(self.told) + 1) if other[0] == at]
+        self._come[number] = tell
+        ready = []
+        following = len(self.told) + 1
+        while following in self._come:
+            ready.append(self._come[following])
+            following += 1
         self.told = (*self.told, *ready)
-        self.waiting = tuple(waiting[len(ready):])
+        self.waiting = tuple(sorted([*self.waiting, tell])[len(ready):])
         return tuple(ready)

@@ -468,6 +468,8 @@ def others(draw, value):
         return [value + "a", value[:-1], value[1:], value[::-1], value.upper(), value + " ", "", None, (value,), [value], value.encode(), True]
     if value is None:
         return [0, "", (), False, "cat", [], {}]
+    if type(value) is not tuple:
+        return [None, (), 0, "cat", True]
     at = draw.randrange(len(value)) if value else 0
     return [list(value), value[:-1], value[1:], value + value[at:at + 1], value + (None,), value[::-1], (), (value,), None, len(value),
             value[:at] + value[at + 1:], value[at + 1:] + value[:at + 1], (True, *value[1:]), dict.fromkeys(range(len(value))), "".join(map(str, value))]

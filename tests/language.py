@@ -180,6 +180,27 @@ def check_dunders(look):
                 look.find("L28", node, "an __init__ that returns")
 
 
+def check_exits(look):
+    """An __exit__ puts attributes and names into attributes, if an error came or if none did, and does nothing else."""
+    for node in look.functions:
+        if node.name != "__exit__":
+            continue
+        if [one.arg for one in node.args.args] != ["self", "kind", "value", "trace"]:
+            look.find("L6", node, "an __exit__ with other parameters")
+        for part in ast.walk(node):
+            if isinstance(part, ast.stmt) and part is not node and not is_exit_row(part):
+                look.find("L6", part, "a row that may not stand in an __exit__")
+
+
+def is_exit_row(row):
+    if isinstance(row, ast.If):
+        return ast.unparse(row.test) in ("kind is None", "kind is not None")
+    if isinstance(row, ast.Assign) and len(row.targets) == 1:
+        named = isinstance(row.targets[0], ast.Name) and re.fullmatch(r"self\.\w+", ast.unparse(row.value))
+        return named or isinstance(row.targets[0], ast.Attribute) and isinstance(row.value, (ast.Attribute, ast.Name))
+    return isinstance(row, ast.Pass) or isinstance(row, ast.Expr) and isinstance(row.value, ast.Constant)
+
+
 def check_statements(look):
     for node in look.of(ast.stmt):
         if not isinstance(node, STATEMENTS):
@@ -272,8 +293,11 @@ def check_values(look):
         if not isinstance(node, ast.Lambda):
             look.find("L6", node, "something that this package does without")
     for node in look.calls("type"):
-        if not isinstance(look.parents[node], ast.Compare):
+        around = look.parents[node]
+        if not isinstance(around, ast.Compare):
             look.find("L8", node, "type outside of a comparison")
+        elif ast.unparse(around.comparators[0]).startswith("type(") and not isinstance(around.ops[0], ast.Is):
+            look.find("L8", node, "two calls of type that are not asked whether they are the same")
 
 
 def check_at_once(look):
@@ -349,7 +373,7 @@ def check_attributes(look):
             look.find("L7", node, "a literal is called")
 
 
-CHECKS = (check_text, check_imports, check_module_level, check_functions, check_dunders, check_statements, check_names,
+CHECKS = (check_text, check_imports, check_module_level, check_functions, check_dunders, check_exits, check_statements, check_names,
           check_inner_comprehensions, check_values, check_at_once, check_sets, check_attributes)
 
 

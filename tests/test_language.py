@@ -136,6 +136,12 @@ class LookTest(unittest.TestCase):
         for rule, text in self.WRONG.items():
             self.assertTrue([one for one in findings("x.py", text) if one.startswith(rule + " ")], (rule, text))
 
+    def test_exits_and_kinds(self):
+        for row in ("self.undo()", "self.held = self.made()", "if value is None:\n            pass", "kept = self.desk.held", "raise", "self.n += f(1)"):
+            text = f"class Box:\n    def __exit__(self, kind, value, trace):\n        {row}\n"
+            self.assertTrue([one for one in findings("x.py", text) if one.startswith("L6 ")], text)
+        self.assertTrue([one for one in findings("x.py", "def f(x, y):\n    return type(x) is not type(y)\n") if one.startswith("L8 ")])
+
     def test_comprehensions_and_stars(self):
         for text in ("def f(xs, y):\n    return [[y for y in x] for x in xs]\n", "def f(xs):\n    return sorted({*xs})\n"):
             self.assertTrue([one for one in findings("x.py", text) if one.startswith("L7 ")], text)
